@@ -1,0 +1,1 @@
+"""Fairround: tables of fractions rounded so that their sums are rounded too."""

@@ -1,0 +1,1 @@
+"""Nothing is refused, so there is no error class here."""
