@@ -76,12 +76,16 @@ def settle_row(grid, base, row):
         shift_round(grid, base, ring_from(grid, base, row))
 
 
-def fair(table, base):
-    """A fair table of the table."""
-    grid = widened(table)
+def settled(grid, base):
+    """The fair table that a widened table comes to when no place of it is left loose."""
     # A base below 0 lies beyond the bounds, but is not refused: its multiples are those of its size.
     size = abs(base)
     # The row of sums needs no turn: a loose place in it would have another in its pillar.
-    for row in range(len(table)):
+    for row in range(len(grid) - 1):
         settle_row(grid, size, row)
     return down(tuple([tuple(counts[:-1]) for counts in grid[:-1]]), base)
+
+
+def fair(table, base):
+    """A fair table of the table."""
+    return settled(widened(table), base)

@@ -23,6 +23,23 @@ def table_of(shape, count):
     return tuple(tuple(count() for _ in range(shape[1])) for _ in range(shape[0]))
 
 
+def varied_tables(seed, bases):
+    """For every shape and each base tables of small, great, near whole and seldom broken shares, with their base."""
+    numbers = Numbers(seed)
+    for shape in SHAPES:
+        for base in bases:
+            yield table_of(shape, lambda: numbers.below(base)), base
+            yield table_of(shape, lambda: numbers.below(4)), base
+            yield table_of(shape, lambda: numbers.below(100001)), base
+            yield table_of(shape, lambda: base * (1 + numbers.below(4)) - 1 + numbers.below(3)), base
+            yield table_of(shape, lambda: base + (numbers.below(4) == 0) * numbers.below(base)), base
+
+
+def same_table(table):
+    """A table equal to a table, but made anew."""
+    return tuple([tuple([int(str(count)) for count in row]) for row in table])
+
+
 def all_tables(shape, counts):
     """All tables of a shape with counts out of some."""
     for flat in itertools.product(counts, repeat=shape[0] * shape[1]):
@@ -36,6 +53,12 @@ def is_whole(thing):
 def is_rounded(count, base, number):
     share = Fraction(count, base)
     return number in (math.floor(share), math.ceil(share))
+
+
+def put(count, base, upward):
+    """[0.5]: the share of a count, put up or down."""
+    share = Fraction(count, base)
+    return math.ceil(share) if upward else math.floor(share)
 
 
 def lines_of(table):

@@ -16,6 +16,23 @@ INTERFACE = {
     "fairround.rounding": {
         "fair": ["table", "base"],
     },
+    "fairround.drawing": {
+        "drawings": ["table", "base"],
+        "share_up": ["table", "base", "row", "pillar"],
+    },
+    "fairround.choosing": {
+        "fair_where": ["table", "base", "kind", "at", "upward"],
+    },
+    "fairround.rows": {
+        "even": ["counts", "base"],
+        "is_even": ["counts", "base", "thing"],
+    },
+    "fairround.changing": {
+        "turned": ["table"],
+        "ordered": ["table", "rows", "pillars"],
+        "raised": ["table", "base", "by"],
+        "taken": ["table", "base", "high"],
+    },
 }
 
 

@@ -25,6 +25,14 @@ WORDS = re.compile(
     r"\b(type|typing|typing_extensions|enum|Enum|IntEnum|StrEnum|Flag|IntFlag|Generic|Protocol|ABC|ABCMeta|namedtuple"
     r"|NamedTuple|TypedDict|TYPE_CHECKING|abstractmethod)\b|dataclass|overload|contextmanager"
 )
+UNUSED = set(
+    "register mro elements open input version_info with_traceback add_note attrgetter breakpoint builtins compile"
+    " copyright credits delattr dir eval exec exit gc getattr globals hasattr help id importlib license locals"
+    " methodcaller os quit setattr super sys vars".split()
+)
+CHANGES = set("append clear extend insert pop remove reverse setdefault update".split())
+WALKED = set("zip enumerate reversed range items keys values".split())
+WALKERS = set("list tuple dict sorted sum any all enumerate zip min max join".split())
 NODES = (
     ast.Module, ast.FunctionDef, ast.arguments, ast.arg, ast.ImportFrom, ast.alias,
     ast.Assign, ast.AugAssign, ast.If, ast.While, ast.For, ast.Return, ast.Break, ast.Continue, ast.Pass, ast.Expr,
@@ -49,6 +57,35 @@ def nodes(kind):
         for node in ast.walk(tree):
             if isinstance(node, kind):
                 yield f"{name}:{getattr(node, 'lineno', 0)}", node
+
+
+def called_name(node):
+    """The name that a call calls, be it a function's or a method's."""
+    return node.func.attr if isinstance(node.func, ast.Attribute) else node.func.id
+
+
+def walked_names(walked):
+    """The names of what a loop walks, be it through zip and its like; what other calls give back has none."""
+    if isinstance(walked, ast.Call):
+        if called_name(walked) not in WALKED - {"range"}:
+            return set()
+        parts = walked.args + ([walked.func.value] if isinstance(walked.func, ast.Attribute) else [])
+        return set().union(*[walked_names(part) for part in parts])
+    return {part.id for part in ast.walk(walked) if isinstance(part, ast.Name)}
+
+
+def changed_names(loop):
+    """The names whose parts are changed within a loop."""
+    for node in ast.walk(loop):
+        part = None
+        if isinstance(node, ast.Subscript) and isinstance(node.ctx, ast.Store):
+            part = node.value
+        elif isinstance(node, ast.Call) and isinstance(node.func, ast.Attribute) and node.func.attr in CHANGES:
+            part = node.func.value
+        while isinstance(part, ast.Subscript):
+            part = part.value
+        if isinstance(part, ast.Name):
+            yield part.id
 
 
 class FileTest(unittest.TestCase):
@@ -96,6 +133,14 @@ class FormTest(unittest.TestCase):
             for alias in node.names:
                 self.assertIn(alias.name, defined, f"L16 {place}")
 
+    def test_no_two_files_draw_from_one_another(self):
+        drawn = {name: {node.module[10:] + ".py" for node in tree.body if isinstance(node, ast.ImportFrom)}
+                 for name, tree in trees()}
+        while drawn:
+            free = [name for name, others in drawn.items() if not others & set(drawn)]
+            self.assertNotEqual(free, [], f"L16 {sorted(drawn)}")
+            drawn = {name: others for name, others in drawn.items() if name not in free}
+
     def test_functions(self):
         for place, node in nodes(ast.FunctionDef):
             self.assertLessEqual(node.end_lineno - node.lineno + 1, 40, f"L10 {place}")
@@ -124,12 +169,33 @@ class FormTest(unittest.TestCase):
                 if isinstance(operator, (ast.Is, ast.IsNot)):
                     self.assertIn(ast.unparse(side), ("None", "True", "False"), f"L20 {place}")
 
+    def test_texts(self):
+        for place, node in nodes(ast.Constant):
+            if isinstance(node.value, str):
+                self.assertNotIn("%", node.value, f"L27 {place}")
+        for path in files():
+            self.assertNotIn("\\", path.read_text("ascii"), f"L27 {path.name}")
+
+    def test_walked_at_once(self):
+        for name, tree in trees():
+            walked = [node.iter for node in ast.walk(tree) if isinstance(node, (ast.For, ast.comprehension))]
+            calls = [node for node in ast.walk(tree) if isinstance(node, ast.Call)]
+            walked += [node.args[0] for node in calls if node.args and called_name(node) in WALKERS]
+            for node in calls:
+                if called_name(node) in WALKED:
+                    self.assertIn(node, walked, f"L23 {name}:{node.lineno}")
+
+    def test_what_is_walked_is_not_changed(self):
+        for place, loop in nodes(ast.For):
+            self.assertEqual(walked_names(loop.iter) & set(changed_names(loop)), set(), f"L23 {place}")
+
 
 class NameTest(unittest.TestCase):
     def test_names(self):
         for place, node in nodes((ast.Name, ast.arg, ast.FunctionDef)):
             name = getattr(node, "id", None) or getattr(node, "arg", None) or node.name
             self.assertRegex(name, r"^[A-Za-z][A-Za-z0-9_]*$", f"L12 {place}")
+            self.assertNotIn(name, UNUSED, f"L17 {place}")
             if name in dir(builtins):
                 self.assertIsInstance(node, ast.Name, f"L15 {place}")
                 self.assertIsInstance(node.ctx, ast.Load, f"L15 {place}")
